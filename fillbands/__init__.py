@@ -1,0 +1,1 @@
+"""Fillbands: what comes into being when a sparse system is solved."""

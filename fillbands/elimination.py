@@ -1,0 +1,187 @@
+"""The columns of all unknowns, told without going through all of them.
+
+A column is kept as an integer, its mask. For the column of unknown k bit d - 1
+tells whether the inner unknown k + d is in it, for d from 1 to 16, and bit
+16 + t whether the border unknown t is. So equal columns, moved on, have equal
+masks.
+"""
+
+from fillbands.zones import MOST_OFFSET, begins_of, length_of, standing_at
+
+# The bits of the inner unknowns.
+INNER = (1 << 16) - 1
+
+
+def mask_of(offsets, touches):
+    """The mask of the later unknowns that an unknown is coupled with at first."""
+    mask = 0
+    for offset in offsets:
+        mask |= 1 << (offset - 1)
+    for touch in touches:
+        mask |= 1 << (MOST_OFFSET + touch)
+    return mask
+
+
+def lowest(mask):
+    """The number of the lowest bit of a mask that is not 0."""
+    return (mask & -mask).bit_length() - 1
+
+
+def hand_on(pending, mask):
+    """Hand the rest of a column on to the parent, if this is an inner unknown.
+
+    In pending stand, for each of the next 16 unknowns, the columns of those
+    whose parent it is, put together and moved on to it. Nothing else of the
+    unknowns eliminated so far plays a part for the columns to come.
+    """
+    inner = mask & INNER
+    if inner:
+        parent = lowest(inner)
+        pending[parent] |= (inner >> (parent + 1)) | (mask ^ inner)
+
+
+class Stretch:
+    """The columns of a zone: masks, those from number tail on again and again."""
+
+    def __init__(self, begin, end, masks, tail):
+        self.begin = begin
+        self.end = end
+        self.masks = masks
+        self.tail = tail
+
+    def mask_at(self, unknown):
+        at = unknown - self.begin
+        if at >= len(self.masks):
+            at = self.tail + (at - self.tail) % (len(self.masks) - self.tail)
+        return self.masks[at]
+
+    def first_having(self, bits):
+        """The first unknown whose column has all of some bits, None if there is none."""
+        for at, mask in enumerate(self.masks):
+            if mask & bits == bits:
+                return self.begin + at
+        return None
+
+    def all_having(self, bits, most):
+        """The unknowns whose columns have all of some bits; not all if they are more than most."""
+        found = []
+        hits = [at for at, mask in enumerate(self.masks) if mask & bits == bits]
+        again = [at for at in hits if at >= self.tail]
+        begin = self.begin
+        while hits and begin + hits[0] < self.end and len(found) <= most:
+            found.extend([begin + at for at in hits if begin + at < self.end])
+            begin += len(self.masks) - self.tail
+            hits = again
+        return found
+
+
+def walked(begin, zone, pending):
+    """The stretch of a zone; pending is what is handed on to it, then what it hands on.
+
+    Within a zone the same that is handed on makes the same columns from there
+    on, so the walk ends as soon as something pending comes for the second time.
+    """
+    count, offsets, touches = zone
+    direct = mask_of(offsets, touches)
+    masks = []
+    seen = {}
+    kept = []
+    while len(masks) < count:
+        key = tuple(pending)
+        if key in seen:
+            tail = seen[key]
+            pending[:] = kept[tail + (count - tail) % (len(masks) - tail)]
+            return Stretch(begin, begin + count, masks, tail)
+        seen[key] = len(masks)
+        kept.append(key)
+        mask = direct | pending.pop(0)
+        pending.append(0)
+        masks.append(mask)
+        hand_on(pending, mask)
+    return Stretch(begin, begin + count, masks, len(masks))
+
+
+class Elimination:
+    """What becomes of the unknowns of a system, told by trimmed zones."""
+
+    def __init__(self, borders, told):
+        self._begins = begins_of(told)
+        self._inner = length_of(told)
+        self._stretches = []
+        pending = [0] * MOST_OFFSET
+        for begin, zone in zip(self._begins, told):
+            self._stretches.append(walked(begin, zone, pending))
+        self._last_masks = self._eliminated_borders(borders)
+
+    def _eliminated_borders(self, borders):
+        """The masks of the columns of the border unknowns."""
+        last = [0] * borders
+        for stretch in self._stretches:
+            for mask in stretch.masks:
+                hand_on_at_border(last, mask)
+        for touch in range(borders):
+            hand_on_at_border(last, last[touch])
+        return last
+
+    def mask(self, unknown):
+        if unknown >= self._inner:
+            return self._last_masks[unknown - self._inner]
+        return self._stretches[standing_at(self._begins, unknown)].mask_at(unknown)
+
+    def bit(self, low, high):
+        """The bit that a later unknown has in the mask of another, 0 if it cannot be there."""
+        if high >= self._inner:
+            return 1 << (MOST_OFFSET + high - self._inner)
+        if high - low > MOST_OFFSET:
+            return 0
+        return 1 << (high - low - 1)
+
+    def has(self, low, high):
+        """Whether a later unknown is in the column of another."""
+        return self.mask(low) & self.bit(low, high) != 0
+
+    def members(self, unknown):
+        """The column of an unknown, ascending."""
+        mask = self.mask(unknown)
+        near = [unknown + offset for offset in range(1, MOST_OFFSET + 1) if mask >> (offset - 1) & 1]
+        last = [self._inner + touch for touch in range(len(self._last_masks)) if mask >> (MOST_OFFSET + touch) & 1]
+        return near + last
+
+    def earlier_near(self, unknown):
+        """The earlier unknowns whose columns can have an inner unknown."""
+        return list(range(max(0, unknown - MOST_OFFSET), unknown))
+
+    def holders(self, unknown, most):
+        """The unknowns whose columns have this one; not all if they are more than most."""
+        if unknown < self._inner:
+            return [low for low in self.earlier_near(unknown) if self.has(low, unknown)]
+        found = []
+        bit = self.bit(0, unknown)
+        for stretch in self._stretches:
+            if len(found) <= most:
+                found.extend(stretch.all_having(bit, most))
+        return found + [low for low in range(self._inner, unknown) if self.has(low, unknown)]
+
+    def first_holding(self, low, high):
+        """The first unknown whose column has two different unknowns, None if there is none."""
+        if low < self._inner:
+            for unknown in self.earlier_near(low):
+                if self.has(unknown, low) and self.has(unknown, high):
+                    return unknown
+            return None
+        bits = self.bit(0, low) | self.bit(0, high)
+        for stretch in self._stretches:
+            first = stretch.first_having(bits)
+            if first is not None:
+                return first
+        for unknown in range(self._inner, low):
+            if self.mask(unknown) & bits == bits:
+                return unknown
+        return None
+
+
+def hand_on_at_border(last, mask):
+    """Hand the rest of a column without inner unknowns on to its parent at the border."""
+    if mask and not mask & INNER:
+        parent = lowest(mask)
+        last[parent - MOST_OFFSET] |= mask ^ (1 << parent)
