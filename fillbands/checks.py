@@ -1,6 +1,6 @@
 """Tests of numbers that several modules are passed."""
 
-from fillbands.errors import InvalidSpan, InvalidUnknown
+from fillbands.errors import InvalidNumber, InvalidSpan, InvalidUnknown
 
 
 def is_integer(value):
@@ -24,3 +24,15 @@ def check_span(begin, end, number):
         raise InvalidSpan(f"begin is an integer from 0, less than {number}")
     if not is_within(end, begin + 1, number):
         raise InvalidSpan(f"end is an integer greater than begin, at most {number}")
+
+
+def check_integer(value):
+    """Raise InvalidNumber unless a value is an integer."""
+    if not is_integer(value):
+        raise InvalidNumber("a number is an integer")
+
+
+def check_count(value):
+    """Raise InvalidNumber unless a value is an integer from 0 on."""
+    if not is_integer(value) or value < 0:
+        raise InvalidNumber("a number is an integer from 0 on")

@@ -1,14 +1,12 @@
 """Columns: what each unknown is coupled with when its turn comes."""
 
-from fillbands.checks import check_unknown
 from fillbands.errors import NotCoupled, TooLarge
-from fillbands.systems import MOST_LISTED, check_system
+from fillbands.systems import MOST_LISTED, check_one, check_pair
 
 
 def column(system, unknown):
     """The column of an unknown, ascending."""
-    check_system(system)
-    check_unknown(unknown, system.unknowns)
+    check_one(system, unknown)
     return system.elimination.members(unknown)
 
 
@@ -22,8 +20,7 @@ def filled(system, one, other):
 
 def row(system, unknown):
     """The unknowns whose columns have one, ascending."""
-    check_system(system)
-    check_unknown(unknown, system.unknowns)
+    check_one(system, unknown)
     found = system.elimination.holders(unknown, MOST_LISTED)
     if len(found) > MOST_LISTED:
         raise TooLarge(MOST_LISTED)
@@ -41,9 +38,3 @@ def first_coupled(system, one, other):
     if first is None:
         raise NotCoupled(f"{one} and {other} never become coupled")
     return first
-
-
-def check_pair(system, one, other):
-    check_system(system)
-    check_unknown(one, system.unknowns)
-    check_unknown(other, system.unknowns)

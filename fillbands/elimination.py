@@ -6,6 +6,8 @@ tells whether the inner unknown k + d is in it, for d from 1 to 16, and bit
 masks.
 """
 
+from math import gcd, lcm
+
 from fillbands.zones import MOST_OFFSET, begins_of, length_of, standing_at
 
 # The bits of the inner unknowns.
@@ -27,6 +29,11 @@ def lowest(mask):
     return (mask & -mask).bit_length() - 1
 
 
+def size_of(mask):
+    """How many unknowns a column has."""
+    return f"{mask:b}".count("1")
+
+
 def hand_on(pending, mask):
     """Hand the rest of a column on to the parent, if this is an inner unknown.
 
@@ -40,20 +47,57 @@ def hand_on(pending, mask):
         pending[parent] |= (inner >> (parent + 1)) | (mask ^ inner)
 
 
-class Stretch:
-    """The columns of a zone: masks, those from number tail on again and again."""
+def lap_of(offsets, period):
+    """After how many unknowns of a long zone the tree comes again, if its masks have a period.
 
-    def __init__(self, begin, end, masks, tail):
+    Behind a period the masks are the same, but an unknown and the one a period
+    further on need not lie on one path: only a common divisor of the offsets
+    leads to the same path again.
+    """
+    common = 0
+    for offset in offsets:
+        common = gcd(common, offset)
+    return lcm(max(common, 1), period)
+
+
+class Stretch:
+    """The columns of a zone: masks, those from number tail on again and again.
+
+    From number tail on each path of the tree goes from an unknown to the one a
+    lap further on.
+    """
+
+    def __init__(self, begin, end, masks, tail, lap):
         self.begin = begin
         self.end = end
         self.masks = masks
         self.tail = tail
+        self.lap = lap
 
     def mask_at(self, unknown):
         at = unknown - self.begin
         if at >= len(self.masks):
             at = self.tail + (at - self.tail) % (len(self.masks) - self.tail)
         return self.masks[at]
+
+    def kinds(self, begin, end):
+        """The kinds of columns of the unknowns that a span shares with the stretch."""
+        begin = max(begin, self.begin)
+        end = min(end, self.end)
+        period = len(self.masks) - self.tail
+        again = max(begin, self.begin + self.tail)
+        found = [(unknown, self.mask_at(unknown), 1) for unknown in range(begin, min(end, again))]
+        for unknown in range(again, min(end, again + period)):
+            found.append((unknown, self.mask_at(unknown), (end - 1 - unknown) // period + 1))
+        return found
+
+    def has_a_lap_from(self, unknown):
+        """Whether the paths of the tree go on through a whole lap of the stretch from an unknown of it on.
+
+        From number tail on either all columns of a stretch have inner unknowns,
+        or none have, and there are no paths.
+        """
+        return self.masks[-1] & INNER != 0 and self.begin + self.tail <= unknown <= self.end - self.lap
 
     def first_having(self, bits):
         """The first unknown whose column has all of some bits, None if there is none."""
@@ -91,14 +135,14 @@ def walked(begin, zone, pending):
         if key in seen:
             tail = seen[key]
             pending[:] = kept[tail + (count - tail) % (len(masks) - tail)]
-            return Stretch(begin, begin + count, masks, tail)
+            return Stretch(begin, begin + count, masks, tail, lap_of(offsets, len(masks) - tail))
         seen[key] = len(masks)
         kept.append(key)
         mask = direct | pending.pop(0)
         pending.append(0)
         masks.append(mask)
         hand_on(pending, mask)
-    return Stretch(begin, begin + count, masks, len(masks))
+    return Stretch(begin, begin + count, masks, len(masks), 1)
 
 
 class Elimination:
@@ -107,26 +151,54 @@ class Elimination:
     def __init__(self, borders, told):
         self._begins = begins_of(told)
         self._inner = length_of(told)
-        self._stretches = []
+        self.stretches = []
         pending = [0] * MOST_OFFSET
         for begin, zone in zip(self._begins, told):
-            self._stretches.append(walked(begin, zone, pending))
-        self._last_masks = self._eliminated_borders(borders)
+            self.stretches.append(walked(begin, zone, pending))
+        self.last_masks = self._eliminated_borders(borders)
 
     def _eliminated_borders(self, borders):
         """The masks of the columns of the border unknowns."""
         last = [0] * borders
-        for stretch in self._stretches:
+        for stretch in self.stretches:
             for mask in stretch.masks:
                 hand_on_at_border(last, mask)
         for touch in range(borders):
             hand_on_at_border(last, last[touch])
         return last
 
-    def mask(self, unknown):
+    def stretch(self, unknown):
+        """The stretch that an unknown stands in, None for a border unknown."""
         if unknown >= self._inner:
-            return self._last_masks[unknown - self._inner]
-        return self._stretches[standing_at(self._begins, unknown)].mask_at(unknown)
+            return None
+        return self.stretches[standing_at(self._begins, unknown)]
+
+    def mask(self, unknown):
+        stretch = self.stretch(unknown)
+        if stretch is None:
+            return self.last_masks[unknown - self._inner]
+        return stretch.mask_at(unknown)
+
+    def parent(self, unknown):
+        """The least unknown of a column, None if it is empty."""
+        mask = self.mask(unknown)
+        if mask == 0:
+            return None
+        if mask & INNER:
+            return unknown + 1 + lowest(mask)
+        return self._inner + lowest(mask) - MOST_OFFSET
+
+    def kinds(self, begin, end):
+        """The kinds of columns of a span: tuples of the first unknown, its mask and how many have the same one.
+
+        They are ascending; a mask can come several times.
+        """
+        found = []
+        for stretch in self.stretches:
+            found.extend(stretch.kinds(begin, end))
+        for unknown in range(max(begin, self._inner), end):
+            found.append((unknown, self.mask(unknown), 1))
+        return found
 
     def bit(self, low, high):
         """The bit that a later unknown has in the mask of another, 0 if it cannot be there."""
@@ -144,7 +216,7 @@ class Elimination:
         """The column of an unknown, ascending."""
         mask = self.mask(unknown)
         near = [unknown + offset for offset in range(1, MOST_OFFSET + 1) if mask >> (offset - 1) & 1]
-        last = [self._inner + touch for touch in range(len(self._last_masks)) if mask >> (MOST_OFFSET + touch) & 1]
+        last = [self._inner + touch for touch in range(len(self.last_masks)) if mask >> (MOST_OFFSET + touch) & 1]
         return near + last
 
     def earlier_near(self, unknown):
@@ -157,7 +229,7 @@ class Elimination:
             return [low for low in self.earlier_near(unknown) if self.has(low, unknown)]
         found = []
         bit = self.bit(0, unknown)
-        for stretch in self._stretches:
+        for stretch in self.stretches:
             if len(found) <= most:
                 found.extend(stretch.all_having(bit, most))
         return found + [low for low in range(self._inner, unknown) if self.has(low, unknown)]
@@ -170,7 +242,7 @@ class Elimination:
                     return unknown
             return None
         bits = self.bit(0, low) | self.bit(0, high)
-        for stretch in self._stretches:
+        for stretch in self.stretches:
             first = stretch.first_having(bits)
             if first is not None:
                 return first

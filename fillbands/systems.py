@@ -3,6 +3,7 @@
 from fillbands.checks import check_span, check_unknown, is_within
 from fillbands.elimination import Elimination
 from fillbands.errors import Bordered, InvalidBorders, InvalidSystem, TooLarge, UnlikeSystems
+from fillbands.growth import Growth
 from fillbands.zones import (
     MOST_OFFSET,
     begins_of,
@@ -37,8 +38,9 @@ class System:
         self._told = merged(trimmed(zones))
         self._begins = begins_of(self._told)
         self._length = length_of(zones)
-        # Kept with the system, which never changes: every question about columns needs it.
+        # Kept with the system, which never changes: the questions about columns and about the tree need them.
         self.elimination = Elimination(borders, self._told)
+        self.growth = Growth(self.elimination)
 
     @property
     def borders(self):
@@ -75,7 +77,12 @@ class System:
 
     def couplings(self):
         """How many couplings there are."""
-        return sum([count * (len(offsets) + len(touches)) for count, offsets, touches in self._told])
+        return self.couplings_from(0, self._length)
+
+    def couplings_from(self, begin, end):
+        """How many couplings have their lesser unknown in a span."""
+        within = cut_zones(self._told, begin, end)
+        return sum([count * (len(offsets) + len(touches)) for count, offsets, touches in within])
 
     def neighbours(self, unknown):
         """The unknowns that one is coupled with, ascending."""
@@ -127,3 +134,21 @@ def check_system(value):
     """Raise InvalidSystem unless a value is a system."""
     if not isinstance(value, System):
         raise InvalidSystem("this is no System")
+
+
+def check_one(system, unknown):
+    """Raise what is wrong with a system or an unknown of it."""
+    check_system(system)
+    check_unknown(unknown, system.unknowns)
+
+
+def check_pair(system, one, other):
+    """Raise what is wrong with a system or two unknowns of it."""
+    check_one(system, one)
+    check_unknown(other, system.unknowns)
+
+
+def check_part(system, begin, end):
+    """Raise what is wrong with a system or a span of its unknowns."""
+    check_system(system)
+    check_span(begin, end, system.unknowns)

@@ -20,6 +20,8 @@ split splitlines startswith strip update upper values zfill bit_length __init__"
 BARRED = """register mro elements open input law version_info with_traceback add_note attrgetter breakpoint builtins compile
 copyright credits delattr dir eval exec exit gc getattr globals hasattr help id importlib license locals methodcaller os
 quit setattr type vars sys iter next print map frozenset chr pow""".split()
+# Of the library these words may be imported; they are only called, by their bare names.
+MATH = ["gcd", "lcm"]
 STATEMENTS = (
     ast.Assign, ast.AugAssign, ast.If, ast.While, ast.For, ast.Return, ast.Break, ast.Continue, ast.Pass, ast.Raise,
     ast.Expr, ast.FunctionDef, ast.ClassDef, ast.ImportFrom,
@@ -74,6 +76,9 @@ class Language(unittest.TestCase):
     def test_imports_name_the_file_that_defines(self):
         imported = {}
         for name, node in nodes(ast.ImportFrom):
+            if node.module == "math":
+                self.assertEqual([(alias.name in MATH, alias.asname) for alias in node.names], [(True, None)] * len(node.names))
+                continue
             self.assertEqual((node.level, node.module.split(".")[0]), (0, "fillbands"))
             source = node.module.split(".")[1]
             imported.setdefault(name, []).append(source)
@@ -85,6 +90,15 @@ class Language(unittest.TestCase):
             ready = [name for name in FILES if name not in done and set(imported.get(name, [])) <= done]
             self.assertTrue(ready, "files import from each other")
             done.update(ready)
+
+    def test_words_of_the_library_are_called(self):
+        for name, tree in TREES.items():
+            called = [id(node.func) for node in ast.walk(tree) if isinstance(node, ast.Call) and not node.keywords]
+            for node in ast.walk(tree):
+                if isinstance(node, ast.Name) and node.id in MATH:
+                    self.assertIn(id(node), called, name)
+                if isinstance(node, (ast.arg, ast.FunctionDef, ast.ClassDef)):
+                    self.assertNotIn(node.arg if isinstance(node, ast.arg) else node.name, MATH, name)
 
     def test_names_are_bound_once_and_used(self):
         for name, tree in TREES.items():
@@ -103,7 +117,7 @@ class Language(unittest.TestCase):
 
     def test_builtins_and_methods(self):
         own = {node.name for _, node in nodes(ast.FunctionDef)}
-        bound = {one for tree in TREES.values() for one in bound_at(tree)}
+        bound = {one for tree in TREES.values() for one in bound_at(tree)} | set(MATH)
         for name, node in nodes(ast.Name):
             if node.id in PYTHONS_OWN:
                 self.assertIn(node.id, BUILTINS, (name, node.lineno))
@@ -157,6 +171,10 @@ class Language(unittest.TestCase):
             "errors": ["FillError", "InvalidZones", "Nothing", "InvalidCommand"],
             "systems": ["System"],
             "columns": ["column", "filled", "row", "first_coupled"],
+            "counts": ["room", "fill", "work", "widest", "first_wide"],
+            "tree": ["parent", "ancestor", "depth", "descendants", "meeting", "roots"],
+            "levels": ["level", "steps", "at_level", "first_at"],
+            "reaches": ["reached", "is_reached", "nth_reached", "reached_room"],
         }
         for name, expected in listed.items():
             self.assertEqual(set(expected) - set(bound_at(TREES[name])), set())
