@@ -64,13 +64,15 @@ class Stretch:
     """The columns of a zone: masks, those from number tail on again and again.
 
     From number tail on each path of the tree goes from an unknown to the one a
-    lap further on.
+    lap further on. In needless stand, for the same unknowns as in masks, the
+    bits of their needless couplings.
     """
 
-    def __init__(self, begin, end, masks, tail, lap):
+    def __init__(self, begin, end, masks, needless, tail, lap):
         self.begin = begin
         self.end = end
         self.masks = masks
+        self.needless = needless
         self.tail = tail
         self.lap = lap
 
@@ -80,16 +82,45 @@ class Stretch:
             at = self.tail + (at - self.tail) % (len(self.masks) - self.tail)
         return self.masks[at]
 
+    def masks_between(self, begin, end):
+        """The masks of the unknowns of a span, which the stretch has, one by one."""
+        found = self.masks[begin - self.begin:end - self.begin]
+        for unknown in range(begin + len(found), end):
+            found.append(self.mask_at(unknown))
+        return found
+
     def kinds(self, begin, end):
         """The kinds of columns of the unknowns that a span shares with the stretch."""
+        return self._kinds_among(self.masks, begin, end)
+
+    def needless_kinds(self, begin, end):
+        """As kinds, with the needless couplings in place of the columns."""
+        return self._kinds_among(self.needless, begin, end)
+
+    def needless_at(self, unknown):
+        """The bits of the needless couplings of an unknown of the stretch with later ones."""
+        return self.needless_kinds(unknown, unknown + 1)[0][1]
+
+    def _kinds_among(self, masks, begin, end):
         begin = max(begin, self.begin)
         end = min(end, self.end)
-        period = len(self.masks) - self.tail
+        period = len(masks) - self.tail
         again = max(begin, self.begin + self.tail)
-        found = [(unknown, self.mask_at(unknown), 1) for unknown in range(begin, min(end, again))]
+        found = [(unknown, masks[unknown - self.begin], 1) for unknown in range(begin, min(end, again))]
         for unknown in range(again, min(end, again + period)):
-            found.append((unknown, self.mask_at(unknown), (end - 1 - unknown) // period + 1))
+            at = self.tail + (unknown - self.begin - self.tail) % period
+            found.append((unknown, masks[at], (end - 1 - unknown) // period + 1))
         return found
+
+    def first_unlike(self, second, begin, end):
+        """The first unknown of a span, which both stretches have, whose columns differ; None if there is none."""
+        tail = max(begin, self.begin + self.tail, second.begin + second.tail)
+        # From both tails on, equal columns over a multiple of both periods are equal again and again.
+        rest = lcm(len(self.masks) - self.tail, len(second.masks) - second.tail)
+        for unknown in range(begin, min(end, tail + rest)):
+            if self.mask_at(unknown) != second.mask_at(unknown):
+                return unknown
+        return None
 
     def has_a_lap_from(self, unknown):
         """Whether the paths of the tree go on through a whole lap of the stretch from an unknown of it on.
@@ -124,25 +155,28 @@ def walked(begin, zone, pending):
 
     Within a zone the same that is handed on makes the same columns from there
     on, so the walk ends as soon as something pending comes for the second time.
+    What an unknown is coupled with at first, and handed on as well, is needless.
     """
     count, offsets, touches = zone
     direct = mask_of(offsets, touches)
     masks = []
     seen = {}
-    kept = []
+    needless = []
     while len(masks) < count:
         key = tuple(pending)
         if key in seen:
             tail = seen[key]
-            pending[:] = kept[tail + (count - tail) % (len(masks) - tail)]
-            return Stretch(begin, begin + count, masks, tail, lap_of(offsets, len(masks) - tail))
+            period = len(masks) - tail
+            pending[:] = list(seen)[tail + (count - tail) % period]
+            return Stretch(begin, begin + count, masks, needless, tail, lap_of(offsets, period))
         seen[key] = len(masks)
-        kept.append(key)
-        mask = direct | pending.pop(0)
+        handed = pending.pop(0)
         pending.append(0)
+        mask = direct | handed
         masks.append(mask)
+        needless.append(direct & handed)
         hand_on(pending, mask)
-    return Stretch(begin, begin + count, masks, len(masks), 1)
+    return Stretch(begin, begin + count, masks, needless, count, 1)
 
 
 class Elimination:
@@ -200,6 +234,17 @@ class Elimination:
             found.append((unknown, self.mask(unknown), 1))
         return found
 
+    def needless_kinds(self, begin, end):
+        """As kinds, with the needless couplings in place of the columns, and without border unknowns."""
+        found = []
+        for stretch in self.stretches:
+            found.extend(stretch.needless_kinds(begin, end))
+        return found
+
+    def is_needless(self, low, high):
+        """Whether the coupling of an inner unknown with a later one, that there is, is needless."""
+        return self.stretch(low).needless_at(low) & self.bit(low, high) != 0
+
     def bit(self, low, high):
         """The bit that a later unknown has in the mask of another, 0 if it cannot be there."""
         if high >= self._inner:
@@ -214,7 +259,10 @@ class Elimination:
 
     def members(self, unknown):
         """The column of an unknown, ascending."""
-        mask = self.mask(unknown)
+        return self.told_by(unknown, self.mask(unknown))
+
+    def told_by(self, unknown, mask):
+        """The later unknowns that a mask of an unknown tells, ascending."""
         near = [unknown + offset for offset in range(1, MOST_OFFSET + 1) if mask >> (offset - 1) & 1]
         last = [self._inner + touch for touch in range(len(self.last_masks)) if mask >> (MOST_OFFSET + touch) & 1]
         return near + last
@@ -222,6 +270,16 @@ class Elimination:
     def earlier_near(self, unknown):
         """The earlier unknowns whose columns can have an inner unknown."""
         return list(range(max(0, unknown - MOST_OFFSET), unknown))
+
+    def first_unlike(self, second):
+        """The first unknown whose column differs in another elimination of as many unknowns, None if there is none."""
+        bounds = sorted(set(self._begins + second._begins + [self._inner]))
+        for begin, end in zip(bounds, bounds[1:]):
+            first = self.stretch(begin).first_unlike(second.stretch(begin), begin, end)
+            if first is not None:
+                return first
+        # The columns of the border unknowns come of those of the inner ones alone.
+        return None
 
     def holders(self, unknown, most):
         """The unknowns whose columns have this one; not all if they are more than most."""

@@ -43,7 +43,7 @@ class Handed:
 
     def take_all(self, stretch, begin, end):
         """Levels and weights of the unknowns from begin to end - 1 of a stretch, as tuples."""
-        return [self.take_inner(stretch.mask_at(unknown)) for unknown in range(begin, end)]
+        return [self.take_inner(mask) for mask in stretch.masks_between(begin, end)]
 
     def take_laps(self, stretch, begin, laps):
         """As take_all for a lap from begin on; then go on for so many laps that add as much as it did."""

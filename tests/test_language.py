@@ -16,7 +16,7 @@ BUILTINS = """len range enumerate zip min max sum abs sorted reversed int str bo
 ord repr any all divmod super property ValueError""".split()
 METHODS = """append clear copy count endswith extend find get index insert isalnum isalpha isdigit islower isspace isupper
 items join keys ljust lower lstrip partition pop remove replace reverse rfind rjust rpartition rsplit rstrip setdefault
-split splitlines startswith strip update upper values zfill bit_length __init__""".split()
+split splitlines startswith strip update upper values zfill bit_length isascii removeprefix __init__""".split()
 BARRED = """register mro elements open input law version_info with_traceback add_note attrgetter breakpoint builtins compile
 copyright credits delattr dir eval exec exit gc getattr globals hasattr help id importlib license locals methodcaller os
 quit setattr type vars sys iter next print map frozenset chr pow""".split()
@@ -24,7 +24,7 @@ quit setattr type vars sys iter next print map frozenset chr pow""".split()
 MATH = ["gcd", "lcm"]
 STATEMENTS = (
     ast.Assign, ast.AugAssign, ast.If, ast.While, ast.For, ast.Return, ast.Break, ast.Continue, ast.Pass, ast.Raise,
-    ast.Expr, ast.FunctionDef, ast.ClassDef, ast.ImportFrom,
+    ast.Expr, ast.FunctionDef, ast.ClassDef, ast.ImportFrom, ast.Try,
 )
 # A console, doctest's too, may leave its last value in the builtins under this name.
 PYTHONS_OWN = set(dir(builtins)) - {"_"}
@@ -145,6 +145,31 @@ class Language(unittest.TestCase):
             if isinstance(node, ast.Raise):
                 self.assertIsInstance(node.exc, ast.Call, (name, node.lineno))
 
+    def test_only_own_errors_are_caught(self):
+        own = [node.name for node in TREES["errors"].body if isinstance(node, ast.ClassDef)]
+        for name, node in nodes(ast.Try):
+            self.assertEqual((node.orelse, node.finalbody), ([], []), (name, node.lineno))
+            for handler in node.handlers:
+                kinds = handler.type.elts if isinstance(handler.type, ast.Tuple) else [handler.type]
+                for kind in kinds:
+                    self.assertIn(kind.id, own, (name, handler.lineno))
+
+    def test_tables_are_only_read(self):
+        """A list or dict at module level is asked by an index or by in alone."""
+        for name, tree in TREES.items():
+            tables = [
+                node.targets[0].id
+                for node in tree.body
+                if isinstance(node, ast.Assign) and isinstance(node.value, (ast.Dict, ast.List))
+            ]
+            asked = [id(node.value) for node in ast.walk(tree) if isinstance(node, ast.Subscript)]
+            for node in ast.walk(tree):
+                if isinstance(node, ast.Compare) and isinstance(node.ops[0], (ast.In, ast.NotIn)):
+                    asked.append(id(node.comparators[0]))
+            for node in ast.walk(tree):
+                if isinstance(node, ast.Name) and isinstance(node.ctx, ast.Load) and node.id in tables:
+                    self.assertIn(id(node), asked, (name, node.lineno))
+
     def test_classes(self):
         stored = {}
         properties = set()
@@ -175,13 +200,23 @@ class Language(unittest.TestCase):
             "tree": ["parent", "ancestor", "depth", "descendants", "meeting", "roots"],
             "levels": ["level", "steps", "at_level", "first_at"],
             "reaches": ["reached", "is_reached", "nth_reached", "reached_room"],
+            "alike": ["first_unlike", "needless", "needless_in", "first_needless"],
+            "texts": ["show_system", "read_system"],
+            "live": ["LiveSystem", "RoomSystem"],
+            "console": ["Console"],
         }
         for name, expected in listed.items():
             self.assertEqual(set(expected) - set(bound_at(TREES[name])), set())
-        system, = [node for _, node in nodes(ast.ClassDef) if node.name == "System"]
-        methods = {item.name for item in system.body if isinstance(item, ast.FunctionDef)}
-        wanted = "borders length unknowns zones __eq__ coupled couplings neighbours cut joined turned".split()
-        self.assertEqual(set(wanted) - methods, set())
+        methods = {
+            "System": "__init__ borders length unknowns zones __eq__ coupled couplings neighbours cut joined turned",
+            "LiveSystem": "__init__ present entries __eq__ add cut turn undo log preview",
+            "RoomSystem": "__init__ budget",
+            "Console": "__init__ execute",
+        }
+        for name, expected in methods.items():
+            found, = [node for _, node in nodes(ast.ClassDef) if node.name == name]
+            own = {item.name for item in found.body if isinstance(item, ast.FunctionDef)}
+            self.assertEqual(set(expected.split()) - own, set())
 
 
 if __name__ == "__main__":
